@@ -1,0 +1,123 @@
+"""Webs of many shapes, things of many kinds, and what the tests do to told answers."""
+
+from random import Random
+
+
+class Thing:
+    pass
+
+
+def nested(depth, kind):
+    thing = kind()
+    for step in range(depth - 1):
+        thing = kind([thing])
+    return thing
+
+
+def things():
+    """Things of kinds that are no whole number: made anew at each call."""
+    return [None, True, False, "", "0", "1", "tie", "ways", 0.0, 1.0, 2.5, float("nan"), float("inf"), 1j, b"0",
+            [], [0], [1, 2], [None], (), (0,), (0, 1), (1, 0), {}, {0: 1}, {0}, frozenset([1]), range(2), Thing(),
+            Thing, len, nested(60, list), nested(60, tuple), [[0], []], ([0], []), (True, False)]
+
+
+def no_numbers(limit):
+    """What is no whole number from 0 to limit - 1."""
+    return things() + [-1, -2, -limit, limit, limit + 1, 99, 10 ** 29, -10 ** 29]
+
+
+def line(n):
+    return (n, tuple((v, v + 1) for v in range(n - 1)))
+
+
+def ring(n):
+    return (n, tuple(sorted([(v, v + 1) for v in range(n - 1)] + [(0, n - 1)])))
+
+
+def full(n):
+    return (n, tuple((a, b) for a in range(n) for b in range(a + 1, n)))
+
+
+def random_web(seed, n, count):
+    chance = Random(seed)
+    ties = []
+    while len(ties) < count:
+        a, b = chance.randrange(n), chance.randrange(n)
+        if a < b:
+            ties.append((a, b))
+    return (n, tuple(sorted(ties)))
+
+
+def random_one_way(seed, n, count):
+    chance = Random(seed)
+    ties = []
+    while len(ties) < count:
+        a, b = chance.randrange(n), chance.randrange(n)
+        if a != b:
+            ties.append((a, b))
+    return (n, tuple(sorted(ties)))
+
+
+TWO_RINGS = (6, ((0, 1), (0, 2), (1, 2), (2, 3), (3, 4), (3, 5), (4, 5)))
+BOW = (5, ((0, 1), (0, 2), (1, 2), (2, 3), (2, 4), (3, 4)))
+STAR = (5, ((0, 2), (1, 2), (2, 3), (2, 4)))
+ALIKE = (4, ((0, 1), (0, 1), (1, 2), (2, 3), (2, 3)))
+SCATTERED = (9, ((0, 4), (1, 2), (1, 2), (3, 5), (3, 8), (5, 8)))
+
+
+def shaped_webs():
+    return [(1, ()), (2, ()), (2, ((0, 1),)), (2, ((0, 1), (0, 1))), (16, ()), (2, ((0, 1),) * 40),
+            line(3), line(16), ring(3), ring(4), ring(16), full(4), full(8), TWO_RINGS, BOW, STAR, ALIKE, SCATTERED]
+
+
+def random_webs():
+    told = []
+    for seed, n in enumerate([5, 6, 7, 8, 9, 10, 11, 12, 13, 14, 15, 16] * 3):
+        told.append(random_web(seed, n, [n - 2, n, n + n // 2][seed % 3]))
+    return told + [random_web(seed, 16, 40) for seed in range(100, 104)]
+
+
+def random_one_ways():
+    told = []
+    for seed, n in enumerate([4, 6, 8, 10, 12, 14, 16] * 3):
+        told.append(random_one_way(seed, n, [n, n + n // 2, 2 * n][seed % 3]))
+    return told + [random_one_way(seed, 16, 40) for seed in range(200, 204)]
+
+
+def copied(thing):
+    if isinstance(thing, list):
+        return [copied(one) for one in thing]
+    return tuple(copied(one) for one in thing) if isinstance(thing, tuple) else thing
+
+
+def spoil(told):
+    """Changes every list within what was told."""
+    if isinstance(told, (list, tuple)):
+        for thing in told:
+            spoil(thing)
+    if isinstance(told, list):
+        told.append("spoilt")
+        told.reverse()
+        told[1:] = []
+
+
+def same_kind(one, other):
+    """Alike in value and kind all through: a truth is no number, a tuple no list."""
+    if type(one) is not type(other):
+        return False
+    if isinstance(one, (list, tuple)):
+        return len(one) == len(other) and all(same_kind(x, y) for x, y in zip(one, other))
+    return one == other
+
+
+def asked_twice(test, ask, *given):
+    """Asks, spoils the answer, asks again: the second answer is as the first was, and nothing given has changed."""
+    before = copied(given)
+    told = ask(*given)
+    first = copied(told)
+    test.assertTrue(same_kind(given, before), (ask, before))
+    spoil(told)
+    test.assertTrue(same_kind(given, before), (ask, before))
+    again = ask(*given)
+    test.assertTrue(same_kind(again, first), (ask, before, first, again))
+    return again
