@@ -100,3 +100,94 @@ def subsets(places):
     for count in range(len(places) + 1):
         for some in combinations(places, count):
             yield list(some)
+
+
+def pairs_of_ways(web, a, b, both_stand):
+    ways = all_ways(web, a, b)
+    return [("ways", one, other) for one in ways for other in ways if both_stand(one, other)]
+
+
+def no_common_tie(one, other):
+    return not set(one[1]) & set(other[1])
+
+
+def no_common_place(one, other):
+    return no_common_tie(one, other) and not set(one[0][1:-1]) & set(other[0][1:-1])
+
+
+def parting_ties(web, a, b):
+    """All of the sort "tie": a tie that all ways have."""
+    ways = all_ways(web, a, b)
+    return [("tie", number, part_with(parts(web_without(web, number)), a)) for number in range(len(web[1]))
+            if ways and all(number in ties for places, ties in ways)]
+
+
+def parting_places(web, a, b):
+    ways = all_ways(web, a, b)
+    return [("place", v, part_with(parts_without(web, v), a)) for v in range(web[0])
+            if ways and v not in (a, b) and all(v in places for places, ties in ways)]
+
+
+def aparts(web, a, b):
+    return [] if all_ways(web, a, b) else [("apart", part_with(parts(web), a))]
+
+
+def showings_by_ties(web, a, b):
+    """Everything that shows how a and b are apart by ties."""
+    return pairs_of_ways(web, a, b, no_common_tie) + parting_ties(web, a, b) + aparts(web, a, b)
+
+
+def showings_by_places(web, a, b):
+    places = parting_places(web, a, b)
+    ties = [] if places else parting_ties(web, a, b)
+    return pairs_of_ways(web, a, b, no_common_place) + places + ties + aparts(web, a, b)
+
+
+def one_of_the_ways(web, a, b, thing):
+    """For webs too great to try all ways: what a way is, word by word."""
+    places, ties = thing
+    if type(thing) is not tuple or type(places) is not list or type(ties) is not list:
+        return False
+    if places[0] != a or places[-1] != b or len(set(places)) != len(places) or len(ties) != len(places) - 1:
+        return False
+    hops = [tuple(sorted(hop)) for hop in zip(places, places[1:])]
+    return all(type(x) is int for x in places + ties) and [web[1][number] for number in ties] == hops
+
+
+def holds(web, a, b, thing, both_stand):
+    """Whether a telling of the right form is so, in a web of any greatness; a tie by places isn't asked for a place."""
+    if thing[0] == "ways":
+        one, other = thing[1:]
+        return one_of_the_ways(web, a, b, one) and one_of_the_ways(web, a, b, other) and both_stand(one, other)
+    if thing[0] == "apart":
+        return not joined(web, a, b) and thing[1] == part_with(parts(web), a)
+    left = parts_without(web, thing[1]) if thing[0] == "place" else parts(web_without(web, thing[1]))
+    side = part_with(left, a)
+    return joined(web, a, b) and b not in side and thing[2] == side
+
+
+def one_piece(web, a, b):
+    return all(joined(web_without(web, number), a, b) for number in range(len(web[1]))) and joined(web, a, b)
+
+
+def pieces(web):
+    told = []
+    for place in range(web[0]):
+        mine = [some for some in told if one_piece(web, some[0], place)]
+        if mine:
+            mine[0].append(place)
+        else:
+            told.append([place])
+    return told
+
+
+def tree(web):
+    sets = pieces(web)
+    home = {place: k for k, some in enumerate(sets) for place in some}
+    return (sets, [(number, home[web[1][number][0]], home[web[1][number][1]]) for number in cut_ties(web)])
+
+
+def ends(web):
+    sets, links = tree(web)
+    counts = [sum(k in (i, j) for number, i, j in links) for k in range(len(sets))]
+    return ([k for k, count in enumerate(counts) if count == 1], [k for k, count in enumerate(counts) if count == 0])
