@@ -191,3 +191,110 @@ def ends(web):
     sets, links = tree(web)
     counts = [sum(k in (i, j) for number, i, j in links) for k in range(len(sets))]
     return ([k for k, count in enumerate(counts) if count == 1], [k for k, count in enumerate(counts) if count == 0])
+
+
+def rings(web):
+    """Every ring, as the set of its ties' numbers: a tie, and a way round between its places."""
+    told = set()
+    for number, (a, b) in enumerate(web[1]):
+        told |= {frozenset(ties + [number]) for places, ties in all_ways(web, a, b) if number not in ties}
+    return told
+
+
+def blocks_by_rings(web):
+    """The blocks by the words of the document, as sets of ties' numbers."""
+    mark = spread(range(len(web[1])), [(min(ring), number) for ring in rings(web) for number in ring])
+    return sets_of(mark)
+
+
+def places_of_ties(web, numbers):
+    return sorted({place for number in numbers for place in web[1][number]})
+
+
+def blocks_by_depths(web):
+    """The blocks by a walk into the depth, as sets of places: for webs that have too many rings."""
+    depth, told = {}, []
+
+    def go(place, came, stack):
+        depth[place] = low = len(depth)
+        for number, tie in enumerate(web[1]):
+            if place not in tie or number == came:
+                continue
+            other = tie[0] + tie[1] - place
+            if other in depth:
+                low = min(low, depth[other])
+                continue
+            mark = len(stack)
+            stack.append(other)
+            under = go(other, number, stack)
+            low = min(low, under)
+            if under >= depth[place]:
+                told.append(sorted(stack[mark:] + [place]))
+                stack[mark:] = []
+        return low
+
+    for place in range(web[0]):
+        if place not in depth:
+            go(place, None, [place])
+    return sorted(told)
+
+
+def inners(web, blocks):
+    """By the words of the document, of the blocks that are told."""
+    cuts = set(cut_places(web))
+    return sorted(sorted(set(block) - cuts) for block in blocks if len(set(block) & cuts) == 1)
+
+
+def proper_subsets(n):
+    return [some for some in subsets(range(n)) if 0 < len(some) < n]
+
+
+def leaving(web, some):
+    inside, outside = set(some), set(range(web[0])) - set(some)
+    return sum(a in inside and b in outside or a in outside and b in inside for a, b in web[1])
+
+
+def need(web, falls, some):
+    return max(0, falls + 1 - leaving(web, some))
+
+
+def half_up(total):
+    return -(-total // 2)
+
+
+def all_families(n):
+    """Every family of n places, its sets sorted: each place goes into a set that is there, a new one, or none."""
+    rows = [[]]
+    for place in range(n):
+        later = []
+        for row in rows:
+            later.append(row)
+            later.append(row + [[place]])
+            for k in range(len(row)):
+                later.append(row[:k] + [row[k] + [place]] + row[k + 1:])
+        rows = later
+    return [row for row in rows if all(len(some) < n for some in row)]
+
+
+def greatest_bound(web, falls, families):
+    needs = {tuple(some): need(web, falls, some) for some in proper_subsets(web[0])}
+    return max(half_up(sum(needs[tuple(some)] for some in family)) for family in families)
+
+
+def stands(web, falls):
+    """Goes through each fall of so many ties or fewer."""
+    numbers = range(len(web[1]))
+    for count in range(falls + 1):
+        for fallen in combinations(numbers, count):
+            left = [web[1][number] for number in numbers if number not in fallen]
+            if len(set(spread(range(web[0]), left).values())) > 1:
+                return False
+    return True
+
+
+def web_with(web, added):
+    return (web[0], tuple(sorted(web[1] + tuple(added))))
+
+
+def lists_of_ties(n, count):
+    return [list(ties) for ties in combinations_with_replacement(list(combinations(range(n), 2)), count)]

@@ -121,3 +121,41 @@ def asked_twice(test, ask, *given):
     again = ask(*given)
     test.assertTrue(same_kind(again, first), (ask, before, first, again))
     return again
+
+
+def shaped_small_webs():
+    """Of the shaped webs those with at most eight places, and some more with very many or few ties."""
+    return [web for web in shaped_webs() if web[0] <= 8] + [
+        (8, ()), line(8), ring(8), (7, ((0, 3), (1, 2), (1, 2), (4, 6))), (8, ((0, 7),) * 20 + ((3, 4),) * 20),
+        (8, tuple((v, 7) for v in range(7))), (6, ((0, 1), (0, 1), (2, 3), (2, 3), (4, 5), (4, 5))),
+        (8, tuple(sorted(full(8)[1] + ring(8)[1] + ((0, 4), (1, 5), (2, 6), (3, 7)))))]
+
+
+def random_small_webs(count):
+    """Webs of five to eight places with ties from none to forty."""
+    told = []
+    for seed in range(count):
+        n = 5 + seed % 4
+        counts = [seed % n, n // 2, n - 1, n, n + n // 2, 2 * n, 40]
+        told.append(random_web(1000 + seed, n, counts[seed % 7]))
+    return told
+
+
+def long_things():
+    """Lists of up to four hundred things, some with right ones among them."""
+    return [[0] * 400, list(range(400)), [0, 1] * 200, [[0]] * 400, [[v] for v in range(400)], [(0, 1)] * 300,
+            [True] * 400, ["0"] * 400, [None] * 400, [[]] * 400, [10 ** 29] * 400, (0,) * 400, ((0, 1),) * 400]
+
+
+def no_sets(n):
+    """What is no set of one place or more of n places, and not of all."""
+    places = list(range(n))
+    told = [places, tuple(places), places + [n], [], (), (0,), (0, 1), [0, 0], [1, 0], [0, 1, 0], [1, 1, 0], [2, 1, 0],
+            [n], [-1], [-1, 0], [0, n], [n - 1, n], [-n], [0, 10 ** 29], [True], [False], [0, True], [False, 1],
+            [0, 1.0], [0.0], ["0"], [0, "1"], [None], [0, None], [[0]], [0, [1]], [(0,)], [{}], {0: True}, {0: 0, 1: 1},
+            {0}, 0, 1, -1, n, 10 ** 29, "0", "01", b"0", [b"0"], [Thing()], [float("nan")], range(1), iter([0])]
+    if n > 1:
+        told.append(list(reversed(places)))
+    rising = [[0], [1, 2]]
+    told += [thing for thing in things() if not any(same_kind(thing, some) for some in rising)]
+    return told + long_things() + [some for some in rising if max(some) >= n or len(some) >= n]
