@@ -30,9 +30,13 @@ def proper_sets(n):
     return sets_below(n)[1:-1]
 
 
-def leaving(web, some):
+def ties_that_leave(web, some):
     check_set(web, some)
-    return len([tie for tie in web[1] if (tie[0] in some) != (tie[1] in some)])
+    return [tie for tie in web[1] if (tie[0] in some) != (tie[1] in some)]
+
+
+def leaving(web, some):
+    return len(ties_that_leave(web, some))
 
 
 def need(web, falls, some):

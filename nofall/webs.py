@@ -79,3 +79,8 @@ def is_one_way(thing):
 
 def is_web(thing):
     return is_one_way(thing) and all([tie[0] < tie[1] for tie in thing[1]])
+
+
+def with_ties(web, added):
+    # Ties put in are no ties of a web that is made: with them there may be more than forty.
+    return (web[0], tuple(sorted(web[1] + tuple(added))))

@@ -298,3 +298,69 @@ def web_with(web, added):
 
 def lists_of_ties(n, count):
     return [list(ties) for ties in combinations_with_replacement(list(combinations(range(n), 2)), count)]
+
+
+def fewer_do(web, count, does):
+    """Whether some list of one tie fewer does: where none of them does, no shorter list does either."""
+    return count > 0 and any(does(web_with(web, ties)) for ties in lists_of_ties(web[0], count - 1))
+
+
+def is_added(n, thing):
+    if type(thing) is not list or any(type(tie) is not tuple or len(tie) != 2 for tie in thing):
+        return False
+    right = list(combinations(range(n), 2))
+    return all(type(place) is int for tie in thing for place in tie) and all(tie in right for tie in thing) and \
+        all(thing[k] <= thing[k + 1] for k in range(len(thing) - 1))
+
+
+def neighbours(web, some):
+    return [v for v in range(web[0]) if v not in some and any(
+        (min(v, w), max(v, w)) in web[1] for w in some)]
+
+
+def place_need(web, some):
+    near = neighbours(web, some)
+    room = [v for v in range(web[0]) if v not in some and v not in near]
+    return min(len(room), max(0, 2 - len(near)))
+
+
+def place_stands(web):
+    return len(parts(web)) == 1 and all(len(parts_without(web, v)) < 2 for v in range(web[0]))
+
+
+def place_papers(n, families):
+    return [("family", family) for family in families] + [("place", v) for v in range(n)]
+
+
+def place_bound(web, paper):
+    if paper[0] == "place":
+        return max(0, len(parts_without(web, paper[1])) - 1)
+    return half_up(sum(place_need(web, some) for some in paper[1]))
+
+
+def reaches(one):
+    """Whether a way leads from a place to another one: step by step through each place between."""
+    reach = {(a, b) for a, b in one[1]} | {(v, v) for v in range(one[0])}
+    for middle in range(one[0]):
+        reach |= {(a, b) for a in range(one[0]) for b in range(one[0]) if (a, middle) in reach and (middle, b) in reach}
+    return reach
+
+
+def classes(one):
+    reach = reaches(one)
+    told = []
+    for v in range(one[0]):
+        some = [w for w in range(one[0]) if (v, w) in reach and (w, v) in reach]
+        if some not in told:
+            told.append(some)
+    return sorted(told)
+
+
+def firsts_and_lasts(one):
+    told = ([], [], [])
+    for number, some in enumerate(classes(one)):
+        into = any(a not in some and b in some for a, b in one[1])
+        out = any(a in some and b not in some for a, b in one[1])
+        if not into or not out:
+            told[2 if not into and not out else 1 if into else 0].append(number)
+    return told

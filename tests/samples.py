@@ -159,3 +159,29 @@ def no_sets(n):
     rising = [[0], [1, 2]]
     told += [thing for thing in things() if not any(same_kind(thing, some) for some in rising)]
     return told + long_things() + [some for some in rising if max(some) >= n or len(some) >= n]
+
+
+def no_families(n):
+    """What is no family of n places, two or more."""
+    told = [(), ([0],), ([0], [1]), [(0,)], [(0,), (1,)], [[0], (1,)], [[0], [0]], [[0], [1], [0]], [[0, 1], [1]],
+            [[0], [0, 1]], [list(range(n))], [[0], list(range(n))], [[]], [[0], []], [[1, 0]], [[0, 0]], [[n]],
+            [[0], [n]], [[-1]], [[True]], [[False]], [[0], [True]], [True], [False], [0], [0, 1], ["0"], [["0"]],
+            [None], [[None]], [[0], None], [[[0]]], [[0], [[1]]], {0: [0]}, {"family": []}, {0}, "", "family", None,
+            True, False, 0, 1, -1, [[0.0]], [{0: 0}], [{0}], [range(1)], range(0), iter([]), [[0]] * 400,
+            [[v] for v in range(400)], [list(range(400))], [[10 ** 29]], nested(60, list), nested(60, tuple), Thing()]
+    return told + [thing for thing in things() if not same_kind(thing, [])]
+
+
+def no_added(n):
+    """What are no added ties of n places, two or more."""
+    last = n - 1
+    told = [((0, 1),), (), [[0, 1]], [(1, 0)], [(last, 0)], [(0, 0)], [(last, last)], [(0, n)], [(-1, 0)], [(-n, 1)],
+            [(0, 10 ** 29)], [(0,)], [()], [(0, 1, 1)], [(0, 1, 2)], [((0, 1),)], [(0, True)], [(False, 1)],
+            [(False, True)], [(0, 1.0)], [("0", "1")], ["01"], [None], [(0, None)], [(None, None)], [([0], [1])],
+            [(0, [1])], [0, 1], [0], [True], [{0: 1}], [{0, 1}], {(0, 1): True}, {(0, 1)}, {0: 1}, {}, "", "01", None,
+            True, False, 0, 1, -1, 10 ** 29, 2.5, b"", range(0), iter([]), [range(2)], [(0, 1), None], [(0, 1), [0, 1]],
+            [(0, 1), (1, 0)], [(0, 1), (0, 1, 1)], [(0, 1)] * 299 + [(1, 0)], [(1, 0)] * 300, [(0, True)] * 300,
+            [None] * 300, ((0, 1),) * 300, Thing(), nested(60, list), nested(60, tuple)]
+    if n > 2:
+        told += [[(0, 2), (0, 1)], [(1, 2), (0, 1)], [(0, 1), (1, 2), (0, 2)], [(0, 1), (0, 2), (0, 1)]]
+    return told + [thing for thing in things() if not same_kind(thing, [])]

@@ -11,18 +11,6 @@ SMALL = [web for n, most in ((1, 0), (2, 4), (3, 5), (4, 4)) for web in brute.sm
 FAMILIES = {n: brute.all_families(n) for n in range(1, 9)}
 
 
-def no_families(n):
-    """What is no family of n places."""
-    told = [(), ([0],), ([0], [1]), [(0,)], [(0,), (1,)], [[0], (1,)], [[0], [0]], [[0], [1], [0]], [[0, 1], [1]],
-            [[0], [0, 1]], [list(range(n))], [[0], list(range(n))], [[]], [[0], []], [[1, 0]], [[0, 0]], [[n]],
-            [[0], [n]], [[-1]], [[True]], [[False]], [[0], [True]], [True], [False], [0], [0, 1], ["0"], [["0"]],
-            [None], [[None]], [[0], None], [[[0]]], [[0], [[1]]], {0: [0]}, {"family": []}, {0}, "", "family", None,
-            True, False, 0, 1, -1, [[0.0]], [{0: 0}], [{0}], [range(1)], range(0), iter([]), [[0]] * 400,
-            [[v] for v in range(400)], [list(range(400))], [[10 ** 29]], samples.nested(60, list),
-            samples.nested(60, tuple), samples.Thing()]
-    return told + [thing for thing in samples.things() if not same_kind(thing, [])]
-
-
 class IsFamilyTest(unittest.TestCase):
     def test_none_at_all(self):
         for n in range(1, 9):
@@ -51,7 +39,7 @@ class IsFamilyTest(unittest.TestCase):
 
     def test_whatever_else(self):
         for n in (2, 3, 5, 8):
-            for thing in no_families(n):
+            for thing in samples.no_families(n):
                 self.assertIs(is_family(n, thing), False, thing)
 
     def test_what_is_asked_of_stays(self):
@@ -86,7 +74,7 @@ class BoundTest(unittest.TestCase):
 
     def test_no_family(self):
         for web in ((2, ()), (3, ((0, 1),)), samples.BOW, samples.full(8)):
-            for thing in no_families(web[0]):
+            for thing in samples.no_families(web[0]):
                 self.assertRaises(NoSet, bound, web, 1, thing)
                 self.assertRaises(NoSet, bound, web, 2, thing)
         for thing in ([[0]], [[]], [[1]], None, (), 0):

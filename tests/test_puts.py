@@ -11,17 +11,8 @@ SMALL = [web for n, most in ((1, 0), (2, 4), (3, 6), (4, 6), (5, 3)) for web in 
 GREATER = samples.shaped_small_webs() + samples.random_small_webs(120)
 
 
-def is_added(n, thing):
-    if type(thing) is not list or thing != sorted(thing):
-        return False
-    right = [(a, b) for a in range(n) for b in range(a + 1, n)]
-    return all(any(same_kind(tie, pair) for pair in right) for tie in thing)
-
-
 def fewer_do(web, falls, count):
-    """Whether some list of one tie fewer does: where none of them does, no shorter list does either."""
-    return count > 0 and any(brute.stands(brute.web_with(web, ties), falls)
-                             for ties in brute.lists_of_ties(web[0], count - 1))
+    return brute.fewer_do(web, count, lambda made: brute.stands(made, falls))
 
 
 class PutsTest(unittest.TestCase):
@@ -29,7 +20,7 @@ class PutsTest(unittest.TestCase):
         told = asked_twice(self, puts, web, falls)
         self.assertIs(type(told), tuple)
         added, family = told
-        self.assertTrue(is_added(web[0], added), (web, falls, added))
+        self.assertTrue(brute.is_added(web[0], added), (web, falls, added))
         self.assertTrue(is_family(web[0], family), (web, falls, family))
         self.assertTrue(stands(brute.web_with(web, added), falls), (web, falls, added))
         self.assertEqual(len(added), bound(web, falls, family), (web, falls, told))
