@@ -50,7 +50,11 @@ def heaviest_apart(weights):
     return best[-1][1]
 
 
+def heaviest_family(n, weigh):
+    sets = sets_below(n)
+    weights = [0] + [weigh(some) for some in sets[1:-1]] + [0]
+    return sorted([sets[number] for number in heaviest_apart(weights)])
+
+
 def best_family(web, falls):
-    sets = sets_below(web[0])
-    needs = [0] + [need(web, falls, some) for some in sets[1:-1]] + [0]
-    return sorted([sets[number] for number in heaviest_apart(needs)])
+    return heaviest_family(web[0], lambda some: need(web, falls, some))

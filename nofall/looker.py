@@ -5,10 +5,14 @@ from nofall.stands import stands
 from nofall.webs import is_tie, with_ties
 
 
-def are_added(web, thing):
+def are_leads(web, thing):
     if not isinstance(thing, list) or not all([is_tie(web[0], tie) for tie in thing]):
         return False
-    return all([tie[0] < tie[1] for tie in thing]) and sorted(thing) == thing
+    return sorted(thing) == thing
+
+
+def are_added(web, thing):
+    return are_leads(web, thing) and all([tie[0] < tie[1] for tie in thing])
 
 
 def lets_by(web, falls, added, family):

@@ -5,12 +5,14 @@ from nofall.parts import hops
 from nofall.webs import is_below
 
 
-def is_proper_set(n, thing):
-    if not isinstance(thing, list) or not 1 <= len(thing) < n:
-        return False
-    if not all([is_below(n, place) for place in thing]):
+def is_rising(limit, thing):
+    if not isinstance(thing, list) or not all([is_below(limit, number) for number in thing]):
         return False
     return all([hop[0] < hop[1] for hop in hops(thing)])
+
+
+def is_proper_set(n, thing):
+    return is_rising(n, thing) and 1 <= len(thing) < n
 
 
 def check_set(web, thing):
@@ -30,9 +32,13 @@ def proper_sets(n):
     return sets_below(n)[1:-1]
 
 
+def leaves(tie, some):
+    return (tie[0] in some) != (tie[1] in some)
+
+
 def ties_that_leave(web, some):
     check_set(web, some)
-    return [tie for tie in web[1] if (tie[0] in some) != (tie[1] in some)]
+    return [tie for tie in web[1] if leaves(tie, some)]
 
 
 def leaving(web, some):

@@ -9,42 +9,39 @@ from nofall.families import best_family
 from nofall.needs import leaving, proper_sets
 
 
-def with_spares(web, falls, ends):
-    # A set's spare is how many of its ends it could lose and still be served.
-    return [(some, leaving(web, some) + len([v for v in ends if v in some]) - falls - 1)
-            for some in proper_sets(web[0])]
+def with_spares(rows, ends, most):
+    # A row is a set and how many ties it has; its spare is how many ends it could lose and still have the most asked.
+    return [(some, count + len([v for v in ends if v in some]) - most) for some, count in rows]
 
 
-def fewest_ends(web, falls):
-    most = falls + 1
+def fewest_ends(n, rows, most):
     ends = []
-    for v in range(web[0]):
+    for v in range(n):
         ends.extend([v] * most)
-    rows = with_spares(web, falls, ends)
+    spares = with_spares(rows, ends, most)
     left = []
-    for v in range(web[0]):
-        lost = min([spare for some, spare in rows if v in some], default=most)
-        lost = min(lost, most)
-        rows = [(some, spare - lost if v in some else spare) for some, spare in rows]
+    for v in range(n):
+        lost = min([most] + [spare for some, spare in spares if v in some])
+        spares = [(some, spare - lost if v in some else spare) for some, spare in spares]
         left.extend([v] * (most - lost))
     return left
 
 
-def can_be_tied(rows, a, b):
-    # A tie within a set takes two ends from it and leaves it nowhere.
-    return a != b and all([spare >= 2 for some, spare in rows if a in some and b in some])
+def can_be_tied(spares, a, b, taken):
+    # A tie within a set leaves it nowhere: so it has both ends less, and nothing for them.
+    return a != b and all([spare >= taken for some, spare in spares if a in some and b in some])
 
 
-def tied(rows, a, b):
-    return [(some, spare - 2 if a in some and b in some else spare) for some, spare in rows]
+def tied(spares, a, b, taken):
+    return [(some, spare - taken if a in some and b in some else spare) for some, spare in spares]
 
 
-def tie_ends(rows, ends):
+def tie_ends(spares, ends):
     added = []
     while ends:
         a = ends[0]
-        b = [v for v in ends if can_be_tied(rows, a, v)][0]
-        rows = tied(rows, a, b)
+        b = [v for v in ends if can_be_tied(spares, a, v, 2)][0]
+        spares = tied(spares, a, b, 2)
         added.append((a, b))
         ends = ends[1:]
         ends.remove(b)
@@ -52,8 +49,9 @@ def tie_ends(rows, ends):
 
 
 def puts(web, falls):
-    ends = fewest_ends(web, falls)
+    rows = [(some, leaving(web, some)) for some in proper_sets(web[0])]
+    ends = fewest_ends(web[0], rows, falls + 1)
     if len(ends) % 2 == 1:
         ends = sorted(ends + [0])
-    added = tie_ends(with_spares(web, falls, ends), ends)
+    added = tie_ends(with_spares(rows, ends, falls + 1), ends)
     return (sorted(added), best_family(web, falls))

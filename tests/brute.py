@@ -364,3 +364,91 @@ def firsts_and_lasts(one):
         if not into or not out:
             told[2 if not into and not out else 1 if into else 0].append(number)
     return told
+
+
+def ins(one, some):
+    inside = set(some)
+    return sum(b in inside for a, b in one[1] if a not in inside)
+
+
+def outs(one, some):
+    inside = set(some)
+    return sum(a in inside for a, b in one[1] if b not in inside)
+
+
+def one_need(one, falls, side, some):
+    return max(0, falls + 1 - {"in": ins, "out": outs}[side](one, some))
+
+
+def one_bound(one, falls, side, family):
+    return sum(one_need(one, falls, side, some) for some in family)
+
+
+def one_stands(one, falls):
+    """Goes through each fall of so many ties or fewer; alike ties fall alike."""
+    all_pairs = {(a, b) for a in range(one[0]) for b in range(one[0])}
+    left = [one]
+    if falls == 1:
+        left += [web_without(one, number) for number in range(len(one[1]))
+                 if number == 0 or one[1][number] != one[1][number - 1]]
+    return all(reaches(made) == all_pairs for made in left)
+
+
+def lists_of_leads(n, count):
+    pairs = sorted((a, b) for a, b in product(range(n), repeat=2) if a != b)
+    return [list(ties) for ties in combinations_with_replacement(pairs, count)]
+
+
+def fewer_leads_do(one, falls, count):
+    """As fewer_do: where no list of one tie fewer does, no shorter one does."""
+    return count > 0 and any(one_stands(web_with(one, ties), falls) for ties in lists_of_leads(one[0], count - 1))
+
+
+def are_leads(n, thing):
+    if type(thing) is not list or any(type(tie) is not tuple or len(tie) != 2 for tie in thing):
+        return False
+    right = [(a, b) for a, b in product(range(n), repeat=2) if a != b]
+    return all(type(place) is int for tie in thing for place in tie) and all(tie in right for tie in thing) and \
+        all(thing[k] <= thing[k + 1] for k in range(len(thing) - 1))
+
+
+def answers(web, offers):
+    """All answers, each by its cost."""
+    told = []
+    for numbers in subsets(range(len(offers))):
+        if stands(web_with(web, [offers[number][:2] for number in numbers]), 1):
+            told.append((sum(offers[number][2] for number in numbers), numbers))
+    return sorted(told)
+
+
+def leaf_ways(tree, taken=(), left=()):
+    """Each leaf of a tree with the offers taken and left on the way to it."""
+    if tree[0] != "try":
+        return [(tree, taken, left)]
+    return leaf_ways(tree[2], taken + (tree[1],), left) + leaf_ways(tree[3], taken, left + (tree[1],))
+
+
+def leaves_set(tie, some):
+    return len({tie[0], tie[1]} & set(some)) == 1
+
+
+def leaf_holds(web, offers, number, leaf, taken, left):
+    """By the words of the document, of a leaf of the right form."""
+    free = [k for k in range(len(offers)) if k not in taken + left]
+    ties = list(web[1]) + [offers[k][:2] for k in taken]
+    if leaf[0] == "barred":
+        ties += [offers[k][:2] for k in free]
+        return sum(leaves_set(tie, leaf[1]) for tie in ties) < 2
+    low = sum(offers[k][2] for k in taken)
+    for some, weight in leaf[1]:
+        low += weight * max(0, 2 - sum(leaves_set(tie, some) for tie in ties))
+    loads = [sum(weight for some, weight in leaf[1] if leaves_set(offers[k], some)) for k in free]
+    return low >= number and all(load <= offers[k][2] for load, k in zip(loads, free))
+
+
+def tree_holds(web, offers, number, tree):
+    """Of a tree of the right form, but that an offer may be tried twice on one way."""
+    for leaf, taken, left in leaf_ways(tree):
+        if len(set(taken + left)) < len(taken + left) or not leaf_holds(web, offers, number, leaf, taken, left):
+            return False
+    return True

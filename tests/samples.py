@@ -185,3 +185,82 @@ def no_added(n):
     if n > 2:
         told += [[(0, 2), (0, 1)], [(1, 2), (0, 1)], [(0, 1), (1, 2), (0, 2)], [(0, 1), (0, 2), (0, 1)]]
     return told + [thing for thing in things() if not same_kind(thing, [])]
+
+
+def round_web(n):
+    """A one-way ring."""
+    return (n, tuple(sorted((v, (v + 1) % n) for v in range(n))))
+
+
+def shaped_small_one_ways():
+    both = tuple(sorted(ring(6)[1] + tuple((b, a) for a, b in ring(6)[1])))
+    return [(1, ()), (2, ()), (2, ((0, 1),)), (2, ((1, 0),)), (2, ((0, 1), (1, 0))), (2, ((0, 1),) * 40), (8, ()),
+            (2, ((0, 1),) * 20 + ((1, 0),) * 20), line(3), line(8), round_web(3), round_web(8), full(4), full(8),
+            (8, tuple(sorted(round_web(8)[1] * 2))), (6, both), (5, ((0, 1), (1, 0), (1, 2), (3, 2))),
+            (8, tuple((7, v) for v in range(7))), (8, tuple((v, 7) for v in range(7))),
+            (6, ((0, 1), (1, 2), (2, 0), (3, 4), (4, 5), (5, 3))), (8, ((0, 7),) * 20 + ((4, 3),) * 20),
+            (7, ((0, 3), (1, 2), (2, 1), (2, 1), (3, 0), (4, 6), (6, 5))), (8, ((0, 1), (2, 3), (4, 5), (6, 7))),
+            (7, ((0, 6), (1, 6), (2, 6), (6, 3), (6, 4), (6, 5)))]
+
+
+def random_small_one_ways(count):
+    """One-way webs of two to eight places with ties from none to forty."""
+    told = []
+    for seed in range(count):
+        n = 2 + seed % 7
+        counts = [seed % n, n // 2, n - 1, n, n + n // 2, 2 * n, 3 * n, 40]
+        told.append(random_one_way(2000 + seed, n, counts[seed % 8]))
+    return told
+
+
+def no_leads(n):
+    """What are no added ties of a one-way web of n places, two or more."""
+    led_back = ([(1, 0)], [(n - 1, 0)], [(0, 1), (1, 0)], [(1, 0)] * 300, [(0, 1)] * 299 + [(1, 0)])
+    told = [thing for thing in no_added(n) if not any(same_kind(thing, right) for right in led_back)]
+    return told + [[(1, 0), (0, 1)], [(1, 0), (1, 0), (0, 1)], [(0, 1)] * 200 + [(1, 0)] + [(0, 1)] * 99, [(1, 1)]]
+
+
+def no_sides():
+    told = ["", "i", "inn", "In", "IN", "in ", " in", "outs", "out\n", "ou", "inout", "side", "n", b"in", b"out",
+            ["in"], ("in",), ("out",), {"in": 0}, {"out"}, ["out"], ["i", "n"], ("in", "out"), ["in", "out"], 0, 1, -1]
+    return told + things()
+
+
+def no_offers(n):
+    """What are no offers of a web of n places, two or more."""
+    right = (0, 1, 5)
+    told = [[right] * 9, (right,) * 9, [right] * 400, [(0, 1)], [()], [(0,)], [(0, 1, 5, 5)], [[0, 1, 5]], ([0, 1, 5],),
+            [(0, 0, 1)], [(n - 1, n - 1, 0)], [(0, n, 1)], [(n, 0, 1)], [(-1, 0, 1)], [(0, -1, 1)], [(-n, 1, 1)],
+            [(10 ** 29, 0, 1)], [(True, 0, 1)], [(0, True, 1)], [(False, 1, 1)], [(0, 1, -1)], [(0, 1, -10 ** 29)],
+            [(0, 1, True)], [(0, 1, False)], [(0, 1, "1")], [(0, 1, "")], [(0, 1, None)], [(0, 1, 1.0)], [(0, 1, [1])],
+            [(0, 1, (1,))], [("0", "1", 1)], [(0, None, 1)], [(None, 1, 1)], [([0], [1], 1)], [(0, 1.0, 1)], ["015"],
+            [0], [0, 1, 5], (0, 1, 5), [None], [True], [{0: 1}], [{0, 1, 5}], [range(3)], {right: True}, {right}, {},
+            {0: right}, "", "offers", "015", 0, 1, 5, -1, 10 ** 29, None, True, False, 2.5, b"", range(0), iter([]),
+            [right, None], [right, [0, 1, 5]], [right, (0, 1)], (right, (1, 1, 1)), [right, (0, 1, -1)], Thing()]
+    told += [[right] * 7 + [(0, 1, -1)], [(0, 1, thing) for thing in (0, None)], nested(60, list), nested(60, tuple)]
+    told += [[(0, 1, thing)] for thing in things()] + [[(thing, 1, 0)] for thing in things()]
+    return told + [thing for thing in things() if thing != [] and thing != ()] + long_things()
+
+
+def random_offers(seed, n, count, costs):
+    chance = Random(seed)
+    return [tuple(chance.sample(range(n), 2)) + (chance.choice(costs),) for step in range(count)]
+
+
+GREAT_COST = 10 ** 30 - 1
+
+
+def offered_webs(count):
+    """Webs of one to eight places, each with offers."""
+    line_offers = [(0, 2, 3), (2, 0, 2), (1, 0, 1), (1, 2, 1)]
+    told = [((1, ()), []), ((1, ()), ()), ((2, ()), []), ((2, ((0, 1),)), [(1, 0, 4)]), (ring(8), []),
+            ((2, ()), [(0, 1, 2), (1, 0, 3), (0, 1, 2)]), (line(3), line_offers), (line(3), tuple(line_offers)),
+            (line(8), [(0, 4, 2), (3, 7, 2), (0, 7, 5)]), (ring(8), [(0, 4, 0)]), ((4, ()), [(0, 1, 1), (2, 3, 1)] * 4),
+            ((3, ()), [(0, 1, GREAT_COST), (1, 2, GREAT_COST), (2, 0, GREAT_COST), (0, 1, 1)]),
+            ((8, ()), [(v, (v + 1) % 8, v) for v in range(8)]), (full(8), [(0, 1, 0)] * 8), (STAR, [(0, 1, 0)] * 8)]
+    for seed in range(count):
+        n = 2 + seed % 7
+        web = random_web(3000 + seed, n, [n - 1, n, n - 2, n + 1, 0, 2 * n][seed % 6])
+        costs = [[0, 1, 2, 3], [1, 5, 7, 9], [0], [10 ** 29, GREAT_COST, 3]][seed % 4]
+        told.append((web, random_offers(seed, n, 3 + seed % 6, costs)))
+    return told
