@@ -16,7 +16,7 @@ def best_by(one, falls, side):
     return heaviest_family(one[0], lambda some: one_need(one, falls, side, some))
 
 
-def best_side_and_family(one, falls):
+def best_paper(one, falls):
     papers = [(side, best_by(one, falls, side)) for side in ("in", "out")]
     return max(papers, key=lambda paper: one_bound(one, falls, paper[0], paper[1]))
 
@@ -38,12 +38,12 @@ def tie_tails(spares, tails, heads):
 
 
 def one_puts(one, falls):
-    side, family = best_side_and_family(one, falls)
-    count = one_bound(one, falls, side, family)
+    paper = best_paper(one, falls)
+    count = one_bound(one, falls, paper[0], paper[1])
     most = falls + 1
     led_in = [(some, ties_by(one, "in", some)) for some in proper_sets(one[0])]
     led_out = [(some, ties_by(one, "out", some)) for some in proper_sets(one[0])]
     heads = so_many_ends(one[0], led_in, most, count)
     tails = so_many_ends(one[0], led_out, most, count)
     spares = with_spares(led_in, heads, most) + with_spares(led_out, tails, most)
-    return (sorted(tie_tails(spares, tails, heads)), side, family)
+    return (sorted(tie_tails(spares, tails, heads)), paper[0], paper[1])

@@ -452,3 +452,59 @@ def tree_holds(web, offers, number, tree):
         if len(set(taken + left)) < len(taken + left) or not leaf_holds(web, offers, number, leaf, taken, left):
             return False
     return True
+
+
+def pieces_by_cuts(web):
+    """For webs too great to try each two places: what is joined without the ties whose fall parts."""
+    cuts = cut_ties(web)
+    left = [tie for number, tie in enumerate(web[1]) if number not in cuts]
+    return sets_of(spread(range(web[0]), left))
+
+
+class Ledger:
+    """A kept web by the words of the document: rows by names, and all rows as they were ahead of each deed."""
+
+    def __init__(self, web):
+        self.n = web[0]
+        self.rows = {number: tie for number, tie in enumerate(web[1])}
+        self.ever = set(self.rows)
+        self.past = []
+
+    def web(self):
+        return (self.n, tuple(sorted(self.rows.values())))
+
+    def ties(self):
+        return [(name,) + self.rows[name] for name in sorted(self.rows)]
+
+    def pieces(self):
+        return pieces_by_cuts(self.web())
+
+    def cut_ties(self):
+        told = []
+        for name in sorted(self.rows):
+            left = [tie for other, tie in self.rows.items() if other != name]
+            a, b = self.rows[name]
+            if not joined((self.n, tuple(left)), a, b):
+                told.append(name)
+        return told
+
+    def put(self, a, b):
+        before = self.pieces()
+        self.past.append((dict(self.rows), set(self.ever)))
+        name = min(set(range(len(self.ever) + 1)) - self.ever)
+        self.rows[name] = (min(a, b), max(a, b))
+        self.ever.add(name)
+        gone = [some for some in before if some not in self.pieces()]
+        return (name, gone)
+
+    def drop(self, name):
+        before = self.pieces()
+        self.past.append((dict(self.rows), set(self.ever)))
+        self.rows = {other: tie for other, tie in self.rows.items() if other != name}
+        after = self.pieces()
+        gone = [some for some in before if some not in after]
+        return (gone[0], [some for some in after if some not in before]) if gone else (None, [])
+
+    def back(self):
+        self.rows, self.ever = self.past.pop()
+        return True

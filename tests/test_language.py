@@ -51,6 +51,20 @@ def bound_names(tree):
     return told
 
 
+def top_names(tree):
+    told = []
+    for node in tree.body:
+        if isinstance(node, (ast.FunctionDef, ast.ClassDef)):
+            told.append(node.name)
+        elif isinstance(node, ast.Assign):
+            told.append(node.targets[0].id)
+    return told
+
+
+def parents_of(tree):
+    return {child: node for node in ast.walk(tree) for child in ast.iter_child_nodes(node)}
+
+
 class LanguageTest(unittest.TestCase):
     def each(self):
         for path in files():
@@ -90,6 +104,7 @@ class LanguageTest(unittest.TestCase):
                 self.assertIn(type(node).__name__, NODES, where)
                 if isinstance(node, ast.Assign):
                     self.assertEqual(len(node.targets), 1, where)
+                    self.assertNotIsInstance(node.targets[0], (ast.Tuple, ast.List), where)
                 if isinstance(node, (ast.For, ast.While)):
                     self.assertFalse(node.orelse, where)
                 if isinstance(node, ast.ListComp):
@@ -166,7 +181,7 @@ class LanguageTest(unittest.TestCase):
                 if isinstance(node, ast.ImportFrom):
                     source = PACKAGE / (node.module.partition(".")[2] + ".py")
                     self.assertTrue(node.module.startswith("nofall.") and node.level == 0, path)
-                    defined = [getattr(part, "name", None) for part in ast.parse(source.read_text()).body]
+                    defined = top_names(ast.parse(source.read_text()))
                     for alias in node.names:
                         self.assertIn(alias.name, defined, path)
                     draws[mine].append(node.module)
@@ -190,6 +205,52 @@ class LanguageTest(unittest.TestCase):
                         self.assertTrue(node.func.attr in METHODS | own | DOUBLE, where)
                 if isinstance(node, ast.Attribute):
                     self.assertNotIn(node.attr, OUT_NAMES | {"format", "format_map", "sort", "args"}, path)
+
+    def test_sets_are_asked_on_the_spot(self):
+        for path, text, tree in self.each():
+            parents = parents_of(tree)
+            for node in ast.walk(tree):
+                self.assertNotIsInstance(node, ast.Set, path)
+                if isinstance(node, ast.Name) and node.id in ("set", "frozenset"):
+                    around = parents[parents[node]]
+                    while isinstance(around, ast.BinOp):
+                        around = parents[around]
+                    counted = isinstance(around, ast.Call) and getattr(around.func, "id", None) in ("len", "sorted")
+                    self.assertTrue(counted or isinstance(around, ast.Compare), (path, node.lineno))
+
+    def test_what_a_file_keeps_holds_no_lists(self):
+        for path, text, tree in self.each():
+            for node in tree.body:
+                if isinstance(node, ast.Assign):
+                    inner = [part for part in ast.walk(node.value) if part is not node.value]
+                    self.assertFalse([part for part in inner if isinstance(part, (ast.List, ast.Dict, ast.Call))], path)
+
+    def test_no_name_is_a_method_and_a_value(self):
+        methods, values = set(), set()
+        for path, text, tree in self.each():
+            for node in ast.walk(tree):
+                if isinstance(node, ast.ClassDef):
+                    methods |= {part.name for part in node.body if isinstance(part, ast.FunctionDef)}
+                if isinstance(node, ast.Attribute) and isinstance(node.ctx, ast.Store):
+                    self.assertIsInstance(node.value, ast.Name, path)
+                    self.assertNotIn(node.attr, METHODS, path)
+                    values.add(node.attr)
+        self.assertFalse(methods & values)
+        for name in methods | values:
+            own = [kind for kind in (str, int, list, dict, set, bytes, tuple) if hasattr(kind, name)]
+            self.assertTrue(name in DOUBLE or not own, name)
+
+    def test_things_walked_on_the_spot(self):
+        walkers = ("list", "tuple", "dict", "sorted", "sum", "any", "all", "enumerate", "zip", "min", "max", "len")
+        for path, text, tree in self.each():
+            parents = parents_of(tree)
+            for node in ast.walk(tree):
+                if isinstance(node, ast.Call) and getattr(node.func, "id", None) in ("zip", "enumerate", "reversed",
+                                                                                  "range"):
+                    around = parents[node]
+                    walked = isinstance(around, (ast.For, ast.comprehension)) and around.iter is node
+                    handed = isinstance(around, ast.Call) and getattr(around.func, "id", None) in walkers
+                    self.assertTrue(walked or handed, (path, node.lineno))
 
     def test_errors_taken(self):
         for path, text, tree in self.each():
